@@ -1,0 +1,1 @@
+"""Eventcore: hard real-time scheduling with exact answers for all arrival patterns."""

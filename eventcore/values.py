@@ -1,0 +1,56 @@
+"""Tests of single values, which every other file of the package uses."""
+
+from eventcore.errors import BadLength, BadOrder, BadTask
+
+
+def is_integer(value, low, high):
+    """Tell whether the value is an integer from low to high."""
+    # Python counts True and False among its integers; the package does not.
+    if isinstance(value, bool) or not isinstance(value, int):
+        return False
+    return low <= value <= high
+
+
+def is_tuple(value, least, most):
+    """Tell whether the value is a tuple of at least so many and at most so many things."""
+    return isinstance(value, tuple) and least <= len(value) <= most
+
+
+def is_order(value, many):
+    """Tell whether the value is a tuple that contains each index below many once."""
+    if not is_tuple(value, many, many):
+        return False
+    for entry in value:
+        if not is_integer(entry, 0, many - 1):
+            return False
+    return sorted(value) == list(range(many))
+
+
+def is_ascending(value, many):
+    """Tell whether the value is a tuple of indexes below many, each one greater than the one before."""
+    if not isinstance(value, tuple):
+        return False
+    before = -1
+    for entry in value:
+        if not is_integer(entry, before + 1, many - 1):
+            return False
+        before = entry
+    return True
+
+
+def check_length(value, low, high):
+    """Raise BadLength unless the value is an integer from low to high."""
+    if not is_integer(value, low, high):
+        raise BadLength(f"not an integer from {low} to {high}")
+
+
+def check_order(value, many):
+    """Raise BadOrder unless the value contains each index below many once."""
+    if not is_order(value, many):
+        raise BadOrder("not a tuple of each index once")
+
+
+def check_task(value, many):
+    """Raise BadTask unless the value is an index below many."""
+    if not is_integer(value, 0, many - 1):
+        raise BadTask("not the index of a task")
