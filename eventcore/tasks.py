@@ -30,6 +30,11 @@ def check_tasks(tasks):
             raise BadTasks(index)
 
 
+def with_task(tasks, index, task):
+    """Return the tasks with another task at the index."""
+    return tasks[:index] + (task,) + tasks[index + 1:]
+
+
 def are_arrivals(value, gap):
     """Tell whether the value is a tuple of arrivals, each one at least the gap after the one before."""
     if not isinstance(value, tuple):

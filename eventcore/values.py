@@ -38,6 +38,12 @@ def is_ascending(value, many):
     return True
 
 
+def first_greatest(numbers):
+    """Return the greatest of the numbers in a list and the index of the first one that is as great."""
+    greatest = max(numbers)
+    return (greatest, numbers.index(greatest))
+
+
 def check_length(value, low, high):
     """Raise BadLength unless the value is an integer from low to high."""
     if not is_integer(value, low, high):

@@ -102,8 +102,8 @@ def wrong_patterns(errors):
     """Pairs for the task set ((2, 9, 5), (1, 9, 1))."""
     rows = [(value, errors.BadPattern(None)) for value in ANY_VALUES if not isinstance(value, tuple)]
     rows += [((), errors.BadPattern(None)), (((),), errors.BadPattern(None)), (((), (), ()), errors.BadPattern(None))]
-    for bad in ([], [0], {}, None, 0, True, "0", (-1,), (101,), (0, 4), (0, 0), (5, 0), (True,), (False,), ("0",), (None,),
-                ((),), ((0,),), (0, 5, 9), (0, 5, 101), (0, None), (0, True), (0, 5, [])):
+    for bad in ([], [0], {}, None, 0, True, "0", (-1,), (101,), (0, 4), (0, 0), (5, 0), (True,), (False,), ("0",),
+                (None,), ((),), ((0,),), (0, 5, 9), (0, 5, 101), (0, None), (0, True), (0, 5, [])):
         rows.append(((bad, ()), errors.BadPattern(0)))
         rows.append(((bad, bad), errors.BadPattern(0)))
         if bad not in ((0, 4), (0, 5, 9)):
@@ -119,10 +119,9 @@ PATTERN_TASKS = ((2, 9, 5), (1, 9, 1))
 
 def wrong_orders():
     """Values that are not orders of two tasks."""
-    bad = [value for value in ANY_VALUES if value != (0, 1)]
-    bad = [value for value in bad if not same(value, (0, 1))] + [(False, True), (False, 1), (0, True)]
-    return bad + [(0, 0), (1, 1), (0, 2), (1, 2), (-1, 0), (0, 1, 1), (0, 1, 2), (0,), (0, "1"), (0, None), [0, 1], [1, 0],
-                  ((0, 1),), {0: 0, 1: 1}, "01"]
+    bad = [value for value in ANY_VALUES if not same(value, (0, 1))] + [(False, 1), (0, True), (1, False)]
+    return bad + [(0, 0), (1, 1), (0, 2), (1, 2), (-1, 0), (0, 1, 1), (0, 1, 2), (0,), (0, "1"), (0, None), [0, 1],
+                  [1, 0], ((0, 1),), {0: 0, 1: 1}, "01"]
 
 
 def wrong_policies():
@@ -131,8 +130,9 @@ def wrong_policies():
     bad += [(word, order) for word in ("fixed", "whole") for order in wrong_orders()]
     bad += [(word, (0, 1)) for word in ("deadline", "slack", "whole deadline", "", "Fixed", True, None, (), [])]
     bad += [("fixed", (0, 1), 0), ("fixed", (0, 1), (0, 1)), ("whole", (0, 1), None), ("whole",), ("fixed",),
-            ("deadline", None), ("deadline", ()), ("Deadline",), (("deadline",),), ("whole  deadline",), ("wholedeadline",),
-            ("whole", "deadline"), ["deadline"], ["fixed", (0, 1)], "fixed", "slack", (["deadline"],), ({},)]
+            ("deadline", None), ("deadline", ()), ("Deadline",), (("deadline",),), ("whole  deadline",),
+            ("wholedeadline",), ("whole", "deadline"), ["deadline"], ["fixed", (0, 1)], "fixed", "slack",
+            (["deadline"],), ({},)]
     return bad
 
 

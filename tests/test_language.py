@@ -21,11 +21,12 @@ METHODS = set("""append clear copy count endswith extend find get index insert i
 isupper items join keys ljust lower lstrip partition pop remove replace reverse rfind rjust rpartition rsplit rstrip
 setdefault split splitlines startswith strip update upper values zfill bit_length __init__""".split())
 BARRED_NAMES = set("""register mro elements open input law version_info with_traceback add_note attrgetter breakpoint
-builtins compile copyright credits delattr dir eval exec exit gc getattr globals hasattr help id importlib license locals
-methodcaller os quit setattr type vars sys __name__""".split())
+builtins compile copyright credits delattr dir eval exec exit gc getattr globals hasattr help id importlib license
+locals methodcaller os quit setattr type vars sys __name__""".split())
 BARRED_WORDS = """type typing typing_extensions enum Enum IntEnum StrEnum Flag IntFlag Generic Protocol ABC ABCMeta
 namedtuple NamedTuple TypedDict TYPE_CHECKING abstractmethod""".split()
-STATEMENTS = (ast.Import, ast.Global, ast.AsyncFunctionDef, ast.AsyncFor, ast.AsyncWith, ast.Await, ast.Set, ast.SetComp)
+STATEMENTS = (ast.Import, ast.Global, ast.AsyncFunctionDef, ast.AsyncFor, ast.AsyncWith, ast.Await, ast.Set,
+              ast.SetComp, ast.GeneratorExp)
 
 
 def files():
@@ -174,6 +175,11 @@ class LanguageTest(unittest.TestCase):
         listed = {
             "tasks": "synchronous", "simulation": "simulate simulate_runs",
             "schedules": "shows_schedule finishes responses missed idle_units",
+            "tasktext": "write_tasks read_tasks",
+            "fixed": "busy_period worst_response worst_job meets_fixed",
+            "orders": "feasible_order stuck_set shows_stuck greatest_scale",
+            "deadlines": "demand overfull_length worst_by_deadline least_deadline first_miss",
+            "whole": "whole_overfull longest_region worst_whole_response later_when_shorter",
         }
         for stem, names in listed.items():
             self.assertLessEqual(set(names.split()), set(module_names(PACKAGE / f"{stem}.py")))

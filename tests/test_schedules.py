@@ -121,8 +121,9 @@ class FinishesTest(Checks, unittest.TestCase):
 
     def test_wrong_schedules(self):
         pattern = ((0, 5), (2,))
-        bad = list(ANY_VALUES) + [(0, 0, 1, None, 0, 0), (0, 0, 1, None, None, 0, 0, None), (0, 0, 1, None, None, 0),
-                                  [0, 0, 1, None, None, 0, 0], (0, 0, True, None, None, 0, 0), (0, 1, 0, None, None, 0, 0)]
+        bad = list(ANY_VALUES)
+        bad += [(0, 0, 1, None, 0, 0), (0, 0, 1, None, None, 0, 0, None), (0, 0, 1, None, None, 0),
+                [0, 0, 1, None, None, 0, 0], (0, 0, True, None, None, 0, 0), (0, 1, 0, None, None, 0, 0)]
         self.assert_same(finishes(PATTERN_TASKS, pattern, (0, 0, 1, None, None, 0, 0)), ((2, 7), (3,)))
         for value in bad:
             self.assert_error(errors.BadSchedule(), finishes, PATTERN_TASKS, pattern, value)
@@ -167,7 +168,8 @@ class ResponsesTest(Checks, unittest.TestCase):
         self.assertGreater(some, 100)
 
     def test_wrong_arguments(self):
-        wrong = [wrong_tasks(errors), wrong_patterns(errors), [(value, errors.BadPolicy()) for value in wrong_policies()]]
+        policies = [(value, errors.BadPolicy()) for value in wrong_policies()]
+        wrong = [wrong_tasks(errors), wrong_patterns(errors), policies]
         for call in (responses, missed):
             self.assert_wrong_arguments(call, (PATTERN_TASKS, ((0, 5), ()), ("deadline",)), wrong)
 
@@ -192,7 +194,8 @@ class IdleUnitsTest(Checks, unittest.TestCase):
                 self.assert_same(found, tuple(unit for unit, task in enumerate(schedule) if task is None))
 
     def test_wrong_arguments(self):
-        self.assert_wrong_arguments(idle_units, (PATTERN_TASKS, ((0,), ())), [wrong_tasks(errors), wrong_patterns(errors)])
+        wrong = [wrong_tasks(errors), wrong_patterns(errors)]
+        self.assert_wrong_arguments(idle_units, (PATTERN_TASKS, ((0,), ())), wrong)
 
 
 if __name__ == "__main__":

@@ -100,8 +100,8 @@ class PolicyTest(Checks, unittest.TestCase):
     def test_idle_units_in_between(self):
         tasks = ((1, 3, 5), (2, 3, 5))
         for policy in all_policies((1, 0)):
-            self.assert_schedule(tasks, ((1, 8), (4, 11)), policy, (None, 0, None, None, 1, 1, None, None, 0, None, None,
-                                                                    1, 1))
+            self.assert_schedule(tasks, ((1, 8), (4, 11)), policy,
+                                 (None, 0, None, None, 1, 1, None, None, 0, None, None, 1, 1))
             self.assert_same(simulate_runs(tasks, ((1, 8), (4, 11)), policy),
                              ((1, 2, 0, 0), (4, 6, 1, 0), (8, 9, 0, 1), (11, 13, 1, 1)))
 
@@ -158,7 +158,8 @@ class OracleTest(Checks, unittest.TestCase):
 
 class WrongValueTest(Checks, unittest.TestCase):
     def test_wrong_arguments(self):
-        wrong = [wrong_tasks(errors), wrong_patterns(errors), [(value, errors.BadPolicy()) for value in wrong_policies()]]
+        policies = [(value, errors.BadPolicy()) for value in wrong_policies()]
+        wrong = [wrong_tasks(errors), wrong_patterns(errors), policies]
         for call in (simulate, simulate_runs):
             self.assert_wrong_arguments(call, (PATTERN_TASKS, ((0, 5), ()), ("deadline",)), wrong)
 
