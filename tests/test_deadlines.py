@@ -112,9 +112,10 @@ class OverfullTest(Checks, unittest.TestCase):
         self.assertEqual(len(counts), 3)
 
     def test_overfull_just_below_the_bound(self):
-        # The L of point 8 is 13, 13 and 29; no shorter length is overfull than the one before it.
+        # The least overfull length is the one before the L of point 8.
         for tasks, wanted in ((((13, 12, 60),), 12), (((6, 6, 60), (7, 12, 60)), 12),
-                              (((4, 4, 10), (17, 28, 60)), 28)):
+                              (((4, 4, 10), (17, 28, 60)), 28), (((11, 32, 37), (12, 34, 35), (8, 21, 24)), 69),
+                              (((3, 19, 31), (12, 32, 40), (10, 52, 60), (3, 12, 50), (9, 16, 32)), 112)):
             self.assert_same(overfull_length(tasks), wanted)
             self.assertEqual((plain_overfull(tasks), oracle_length(0, tasks)), (wanted, wanted + 1))
 
@@ -236,6 +237,10 @@ class LeastDeadlineTest(Checks, unittest.TestCase):
         self.assert_same(least_deadline(((20, 20, 60), (20, 39, 60), (20, 1, 60)), 2), None)
         self.assert_same(least_deadline(((1, 60, 2), (20, 20, 60)), 1), 20)
         self.assert_same(least_deadline(((20, 20, 60), (20, 40, 60), (19, 1, 60), (1, 1, 60)), 3), None)
+        # A deadline of 61 would do.
+        tasks = ((16, 16, 37), (7, 28, 28), (15, 1, 60))
+        self.assert_same(least_deadline(tasks, 2), None)
+        self.assertEqual([plain_overfull(tasks[:2] + ((15, deadline, 60),), 106) for deadline in (60, 61)], [60, None])
 
     def test_random_sets(self):
         rng = rng_of(29)
@@ -343,6 +348,8 @@ class FirstMissTest(Checks, unittest.TestCase):
     def test_two_hundred_and_forty_and_beyond(self):
         self.assert_same(first_miss(((1, 16, 16), (1, 15, 15)), (0, 0)), None)
         self.assert_same(first_miss(((1, 48, 48), (1, 5, 5)), (3, 60)), None)
+        self.assert_same(first_miss(((1, 25, 25), (1, 9, 9)), (0, 0)), None)
+        self.assert_same(first_miss(((1, 21, 21), (1, 33, 33)), (0, 0)), None)
         self.assert_error(errors.TooMany(240), first_miss, ((1, 49, 49), (1, 5, 5)), (0, 0))
         self.assert_error(errors.TooMany(240), first_miss, ((1, 60, 60), (1, 7, 7)), (0, 0))
         self.assert_error(errors.TooMany(240), first_miss, ((20, 1, 60), (1, 7, 7)), (0, 0))

@@ -103,6 +103,13 @@ class WholeOverfullTest(Checks, unittest.TestCase):
         self.assertEqual(len(counts), 3)
         self.assertGreater(min(counts.values()), 30)
 
+    def test_overfull_just_below_the_bound(self):
+        # The L of point 8 is 70, and no deadline reaches that far.
+        tasks = ((11, 32, 37), (12, 34, 35), (8, 21, 24))
+        self.assertEqual(oracle_length(0, tasks), 70)
+        self.assert_same(whole_overfull(tasks), (69, None))
+        self.assertEqual(plain_whole_overfull(tasks, 100), (69, None))
+
     def test_five_thousand_and_beyond(self):
         late, later = [tuple((cost, 60, gap) for cost, _, gap in tasks) for tasks in (LONG, LONGER)]
         self.assert_same(whole_overfull(late), None)
@@ -115,7 +122,11 @@ class WholeOverfullTest(Checks, unittest.TestCase):
         self.assert_same(whole_overfull(tasks), plain_whole_overfull(tasks))
 
     def test_an_overfull_length_of_five_thousand(self):
-        # All deadlines are equal, so nothing is blocked below the last one.
+        # All deadlines are equal, so nothing is blocked: no length below them has a demand.
+        self.assert_same(whole_overfull(((6, 40, 57), (9, 40, 10))), (5000, None))
+        self.assert_same(whole_overfull(((4, 32, 46), (11, 32, 12))), (5000, None))
+        self.assert_error(errors.TooMany(5000), whole_overfull, ((2, 51, 3), (17, 51, 50)))
+        self.assert_error(errors.TooMany(5000), whole_overfull, ((16, 43, 37), (15, 43, 28), (2, 43, 58)))
         for tasks in (((14, 60, 34), (16, 60, 57), (16, 60, 52)),
                       ((6, 60, 27), (17, 60, 37), (3, 60, 23), (10, 60, 53))):
             wanted = plain_whole_overfull(tasks)
