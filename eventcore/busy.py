@@ -58,17 +58,17 @@ def bounded_length(extra, tasks, most):
     return length
 
 
-def worst_behind(front, task):
-    """Return (response, number) of the worst job of a task behind the tasks in front of it.
+def worst_behind(extra, front, task):
+    """Return (response, number) of the worst job of a task behind extra work and the tasks in front of it.
 
     None stands for no busy period; TooMany is raised for a busy period that is too long.
     """
-    length = bounded_length(0, [*front, task], MOST_LENGTH)
+    length = bounded_length(extra, [*front, task], MOST_LENGTH)
     if length is None:
         return None
     cost, _, gap = task
     times = []
     for number in range(rounded_up(length, gap)):
         # The job finishes at the least time that holds its own work, that before it and that in front of it.
-        times.append(least_length((number + 1) * cost, front, MOST_LENGTH) - number * gap)
+        times.append(least_length(extra + (number + 1) * cost, front, MOST_LENGTH) - number * gap)
     return first_greatest(times)

@@ -12,7 +12,7 @@ def in_front(tasks, order, task):
 
 def worst_in_order(tasks, order, task):
     """Return (response, number) of the worst job of the task in the order, or None."""
-    return worst_behind(in_front(tasks, order, task), tasks[task])
+    return worst_behind(0, in_front(tasks, order, task), tasks[task])
 
 
 def check_places(tasks, order, task):

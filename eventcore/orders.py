@@ -20,7 +20,7 @@ def check_busy_sets(tasks):
 def fits_last(tasks, members, task):
     """Tell whether the task meets its deadline if exactly the other members stand in front of it."""
     front = [tasks[other] for other in members if other != task]
-    worst = worst_behind(front, tasks[task])
+    worst = worst_behind(0, front, tasks[task])
     return worst is not None and worst[0] <= tasks[task][1]
 
 

@@ -1,19 +1,34 @@
 """Tests of single values, which every other file of the package uses."""
 
-from eventcore.errors import BadLength, BadOrder, BadTask
+from eventcore.errors import BadLength, BadMachines, BadOrder, BadTask
+
+MOST_MACHINES = 4
+
+
+def is_number(value):
+    """Tell whether the value is an integer."""
+    # Python counts True and False among its integers; the package does not.
+    return isinstance(value, int) and not isinstance(value, bool)
 
 
 def is_integer(value, low, high):
     """Tell whether the value is an integer from low to high."""
-    # Python counts True and False among its integers; the package does not.
-    if isinstance(value, bool) or not isinstance(value, int):
-        return False
-    return low <= value <= high
+    return is_number(value) and low <= value <= high
 
 
 def is_tuple(value, least, most):
     """Tell whether the value is a tuple of at least so many and at most so many things."""
     return isinstance(value, tuple) and least <= len(value) <= most
+
+
+def is_row(value, ranges):
+    """Tell whether the value is a tuple with one integer from low to high for each of the ranges (low, high)."""
+    if not is_tuple(value, len(ranges), len(ranges)):
+        return False
+    for entry, (low, high) in zip(value, ranges):
+        if not is_integer(entry, low, high):
+            return False
+    return True
 
 
 def is_order(value, many):
@@ -35,6 +50,15 @@ def is_ascending(value, many):
         if not is_integer(entry, before + 1, many - 1):
             return False
         before = entry
+    return True
+
+
+def are_apart(spans):
+    """Tell whether no two of the spans (start, stop) have a time in common."""
+    rows = sorted(spans)
+    for before, after in zip(rows, rows[1:]):
+        if after[0] < before[1]:
+            return False
     return True
 
 
@@ -60,3 +84,9 @@ def check_task(value, many):
     """Raise BadTask unless the value is an index below many."""
     if not is_integer(value, 0, many - 1):
         raise BadTask("not the index of a task")
+
+
+def check_machines(value):
+    """Raise BadMachines unless the value is a number of machines."""
+    if not is_integer(value, 1, MOST_MACHINES):
+        raise BadMachines(f"not an integer from 1 to {MOST_MACHINES}")

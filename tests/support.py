@@ -148,6 +148,83 @@ def wrong_lengths(high):
     return bad + [-1, high + 1, 10 ** 30, -10 ** 30]
 
 
+def wrong_numbers(low, high):
+    """Values that are not integers from low to high."""
+    bad = [value for value in ANY_VALUES if isinstance(value, bool) or not isinstance(value, int)]
+    return bad + [low - 1, high + 1, 10 ** 30, -10 ** 30, [low], (low,), str(low)]
+
+
+def wrong_things(make, good, bad, most, least=1):
+    """Pairs of a value that is not a tuple of so many good things and its error; `bad` has things that are not good."""
+    rows = [(value, make(None)) for value in ANY_VALUES if not isinstance(value, tuple)]
+    rows += [((good,) * (most + 1), make(None)), ((None,) * (most + 1), make(None)), ([good], make(None)),
+             ({0: good}, make(None))]
+    if least > 0:
+        rows.append(((), make(None)))
+    for value in bad:
+        rows.append(((value,), make(0)))
+        rows.append(((good,) * (most - 1) + (value,), make(most - 1)))
+        if most > 2:
+            rows.append(((good, value, None), make(1)))
+    return rows
+
+
+def is_whole(value, low, high):
+    return type(value) is int and low <= value <= high
+
+
+def other_kinds(fits):
+    """The values of all kinds that are not what fits."""
+    return [value for value in ANY_VALUES if not fits(value)]
+
+
+def is_pair_of(value, *ranges):
+    """A tuple with one integer in each of the ranges."""
+    return type(value) is tuple and len(value) == len(ranges) and all(is_whole(entry, low, high) for entry, (low, high)
+                                                                      in zip(value, ranges))
+
+
+def wrong_pair_jobs(errors):
+    """Pairs of a value that is not equal jobs, or unit jobs, and its error."""
+    bad = other_kinds(lambda value: is_pair_of(value, (0, 100), (0, 100)))
+    bad += [(-1, 5), (0, 101), (101, 0), (5, -1), (0, True), (False, 5), (0, None), (0, 5, 5), (0, "5"), [0, 5],
+            (0, (5,)), ((0, 5),)]
+    return wrong_things(errors.BadJobs, (0, 9), bad, 8)
+
+
+def wrong_long_jobs(errors):
+    """Pairs of a value that is not long jobs and its error."""
+    bad = other_kinds(lambda value: is_pair_of(value, (0, 100), (1, 20), (0, 100)))
+    bad += [(-1, 2, 5), (101, 2, 5), (0, 0, 5), (0, 21, 50), (0, 2, -1), (0, 2, 101), (False, 2, 5), (0, True, 5),
+            (0, 2, True), (0, 2), (0, 2, 5, 5), [0, 2, 5], (0, 2, None), (0, "2", 5), (0, 2, [5]), (0, (2,), 5)]
+    return wrong_things(errors.BadJobs, (0, 2, 90), bad, 7)
+
+
+def wrong_pairs(errors):
+    """Pairs of a value that is not pairs (cost, gap) and its error."""
+    bad = other_kinds(lambda value: is_pair_of(value, (1, 12), (1, 12)) and value[0] <= value[1])
+    bad += [(0, 5), (13, 13), (5, 13), (6, 5), (1, 0), (True, 5), (1, True), (1, None), (1, 5, 5), [1, 5], (1, "5"),
+            (-1, 5), (1, 5, None)]
+    return wrong_things(errors.BadPairs, (1, 12), bad, 4)
+
+
+def wrong_links(errors):
+    """Pairs of a value that is not links for three jobs and its error."""
+    bad = other_kinds(lambda value: is_pair_of(value, (0, 2), (0, 2)) and value[0] != value[1])
+    bad += [(0, 0), (2, 2), (0, 3), (3, 0), (-1, 0), (0, -1), (0, True), (False, 1), (0, None), (0, 1, 2), [0, 1],
+            (0, "1"), ((0, 1),)]
+    rows = wrong_things(errors.BadLinks, (0, 2), bad, 12, least=0)
+    rows += [(((0, 1), (1, 0)), errors.BadLinks(None)), (((0, 1), (1, 2), (2, 0)), errors.BadLinks(None)),
+             (((0, 1), (0, 1), (2, 1), (1, 2)), errors.BadLinks(None)), (((0, 1), (1, 0), (3, 0)), errors.BadLinks(2)),
+             (((0, 1), (1, 0), (1, 1)), errors.BadLinks(2)), (((0, 1),) * 13, errors.BadLinks(None))]
+    return rows
+
+
+def wrong_machines(errors):
+    """Pairs of a value that is not a number of machines and its error."""
+    return [(value, errors.BadMachines()) for value in wrong_numbers(1, 4)]
+
+
 # Random arguments. Every test makes its own generator from a fixed number, so that each run is the same.
 
 def random_task(rng, most_cost=6, most_gap=12, most_deadline=14):
@@ -283,3 +360,220 @@ def hyper(tasks):
 
 def rng_of(number):
     return random.Random(number)
+
+
+def wait_free_end(jobs, done, time):
+    """Whether the long jobs that are not done can all run in time from now on without the machine ever waiting."""
+    left = [job for job in range(len(jobs)) if job not in done]
+    if not left:
+        return True
+    time = max(time, min(jobs[job][0] for job in left))
+    return any(wait_free_end(jobs, done + [job], time + jobs[job][1]) for job in left
+               if jobs[job][0] <= time and time + jobs[job][1] <= jobs[job][2])
+
+
+def some_order_fits(jobs, done=(), time=0):
+    """Whether the long jobs can all run in time without interruption, by trying all orders."""
+    left = [job for job in range(len(jobs)) if job not in done]
+    return not left or any(some_order_fits(jobs, (*done, job), max(time, jobs[job][0]) + jobs[job][1]) for job in left
+                           if max(time, jobs[job][0]) + jobs[job][1] <= jobs[job][2])
+
+
+def random_long_jobs(rng, most=7, most_length=6, spread=16, slack=10):
+    jobs = []
+    for _ in range(rng.randint(1, most)):
+        arrival, length = rng.randint(0, spread), rng.randint(1, most_length)
+        jobs.append((arrival, length, min(100, arrival + length + rng.randint(-1, slack))))
+    return tuple((arrival, length, max(0, due)) for arrival, length, due in jobs)
+
+
+def bent_tuples(rng, value, many=20, numbers=(-2, -1, 1, 2, 7)):
+    """Tuples like the value of integers and of tuples of integers, each changed in one place."""
+    rows = [value[:-1], value[1:], value + value[:1], value + (0,), value + (None,), list(value), (value,)]
+    for _ in range(many):
+        rows.append(bent(rng, value, numbers))
+    return rows
+
+
+def bent(rng, value, numbers):
+    """The value with one entry, however deep inside, cut, doubled, exchanged or changed to another one."""
+    if type(value) is not tuple or not value:
+        if type(value) is int and rng.random() < 0.8:
+            return value + rng.choice(numbers)
+        return rng.choice((None, True, False, "0", (), 0, 1, []))
+    place = rng.randrange(len(value))
+    kind = rng.random()
+    if kind < 0.6:
+        return value[:place] + (bent(rng, value[place], numbers),) + value[place + 1:]
+    if kind < 0.7:
+        return value[:place] + value[place + 1:]
+    if kind < 0.8:
+        return value[:place] + (value[place],) + value[place:]
+    other = rng.randrange(len(value))
+    row = list(value)
+    row[place], row[other] = row[other], row[place]
+    return tuple(row)
+
+
+# Locked tasks.
+
+def sections_fit(cost, sections):
+    """What point 16 says of the sections of one task, unit by unit."""
+    if list(sections) != sorted(sections) or len(sections) > 4:
+        return False
+    for place, (start, length, lock) in enumerate(sections):
+        if start < 0 or length < 1 or start + length > cost or not 0 <= lock <= 3:
+            return False
+        units = set(range(start, start + length))
+        for other_start, other_length, other_lock in sections[:place]:
+            other_units = set(range(other_start, other_start + other_length))
+            if units & other_units:
+                if not (units <= other_units or other_units <= units) or lock == other_lock or length == other_length:
+                    return False
+    return True
+
+
+def random_sections(rng, cost, locks=4, most=4):
+    """Sections that can stand in a task of this cost, with sections inside others."""
+    sections = []
+    for _ in range(rng.randint(0, 3 * most)):
+        start = rng.randint(0, cost - 1)
+        if sections and rng.random() < 0.3:
+            start = rng.choice(sections)[0]
+        more = (start, rng.randint(1, cost - start), rng.randint(0, locks - 1))
+        if len(sections) < most and sections_fit(cost, tuple(sorted([*sections, more]))):
+            sections.append(more)
+    return tuple(sorted(sections))
+
+
+def random_locked(rng, most=4, most_cost=6, most_gap=16, locks=4, most_sections=4):
+    tasks = []
+    for _ in range(rng.randint(1, most)):
+        cost = rng.randint(1, most_cost)
+        tasks.append((cost, rng.randint(1, most_gap), random_sections(rng, cost, locks, most_sections)))
+    return tuple(tasks)
+
+
+def locked_as_tasks(tasks):
+    return tuple((cost, gap, gap) for cost, gap, _ in tasks)
+
+
+def random_ring_locked(rng, most=4, locks=2):
+    """Locked tasks in which sections of few locks stand inside each other in several orders."""
+    tasks = []
+    for _ in range(rng.randint(2, most)):
+        cost = rng.randint(3, 7)
+        start = rng.randint(0, cost - 3)
+        begin = rng.randint(start + 1, cost - 2)
+        one, other = rng.sample(range(locks), 2)
+        sections = ((start, cost - start, one), (begin, rng.randint(1, cost - begin), other))
+        if rng.random() < 0.3:
+            sections = random_sections(rng, cost, locks)
+        tasks.append((cost, rng.randint(6, 20), sections))
+    return tuple(tasks)
+
+
+class LockedJob:
+    """One job of a locked task."""
+
+    def __init__(self, task, number, arrival, cost, sections):
+        self.task, self.number, self.arrival, self.cost, self.sections = task, number, arrival, cost, sections
+        self.done, self.finish, self.blocked, self.first_unit = 0, None, [], None
+
+    def holds(self):
+        return {lock for start, length, lock in self.sections if start + 1 <= self.done <= start + length - 1}
+
+    def must_take(self):
+        return {lock for start, _, lock in self.sections if start == self.done}
+
+
+def plain_ceiling(tasks, lock):
+    found = [task for task, (_, _, sections) in enumerate(tasks) if lock in [row[2] for row in sections]]
+    return min(found, default=None)
+
+
+def in_the_way(tasks, protocol, job, other):
+    """Whether the other job holds a lock that keeps the job from running, as point 17 says."""
+    locks = other.holds()
+    if protocol in ("plain", "inherit"):
+        return bool(locks & job.must_take())
+    if protocol == "ceiling":
+        return bool(job.must_take()) and any(plain_ceiling(tasks, lock) <= job.task for lock in locks)
+    return job.done == 0 and any(plain_ceiling(tasks, lock) <= job.task for lock in locks)
+
+
+def current_priority(tasks, protocol, job, waits):
+    """The current priority of a job; `waits` has the pairs (job, other) of which the first one waits for the other."""
+    if protocol == "stack":
+        return min([job.task] + [plain_ceiling(tasks, lock) for lock in job.holds()])
+    reached = [job]
+    if protocol != "plain":
+        for known in reached:
+            reached += [one for one, other in waits if other is known and one not in reached]
+    return min(one.task for one in reached)
+
+
+def run_locked_jobs(tasks, pattern, protocol):
+    """The jobs, each with its finish and the tasks that ran in the units that block it, and what ran in each unit."""
+    jobs = [LockedJob(task, number, arrival, tasks[task][0], tasks[task][2])
+            for task, row in enumerate(pattern) for number, arrival in enumerate(row)]
+    ran = []
+    unit = 0
+    while True:
+        left = [job for job in jobs if job.finish is None]
+        ready = [job for job in left if job.arrival <= unit
+                 and not any(other.task == job.task and other.number < job.number for other in left)]
+        waits = [(job, other) for job in ready for other in ready
+                 if other is not job and in_the_way(tasks, protocol, job, other)]
+        may = [job for job in ready if not any(one is job for one, _ in waits)]
+        if not may and not any(job.arrival > unit for job in left):
+            break
+        best = None
+        for job in may:
+            key = (current_priority(tasks, protocol, job, waits), protocol == "stack" and job.done == 0, job.task)
+            if best is None or key < best[0]:
+                best = (key, job)
+        ran.append(None if best is None else best[1].task)
+        if best is not None:
+            runner = best[1]
+            for job in ready:
+                if job.task < runner.task:
+                    job.blocked.append(runner.task)
+            if runner.done == 0:
+                runner.first_unit = unit
+            runner.done += 1
+            if runner.done == runner.cost:
+                runner.finish = unit + 1
+        unit += 1
+    while ran and ran[-1] is None:
+        ran.pop()
+    return jobs, tuple(ran)
+
+
+def wrong_locked(errors):
+    """Pairs of a value that is not locked tasks and its error."""
+    bad = [value for value in ANY_VALUES]
+    bad += [(0, 5, ()), (21, 5, ()), (5, 0, ()), (5, 61, ()), (True, 5, ()), (5, True, ()), (5, 5, None), (5, 5),
+            (5, 5, [], ()), (5, 5, []), (5, 5, (), ()), [5, 5, ()], (5, "5", ()), (None, 5, ()), (5, 5, 0), (5, 5, "")]
+    for sections in ([(0, 1, 0)], ((0, 1),), ((0, 1, 4),), ((0, 1, -1),), ((-1, 1, 0),), ((0, 0, 0),), ((0, 6, 0),),
+                     ((5, 1, 0),), ((4, 2, 0),), ([0, 1, 0],), (0, 1, 0), (None,), ((False, 1, 0),), ((0, True, 0),),
+                     ((0, 1, True),), ((0, 1, 0, 0),), ((0, 1, None),), ((0, "1", 0),), ((10 ** 30, 1, 0),),
+                     # Not ascending.
+                     ((1, 1, 0), (0, 1, 1)), ((0, 3, 0), (0, 2, 1)), ((2, 1, 0), (0, 1, 0)), ((0, 2, 1), (0, 1, 0)),
+                     # They overlap, but none is inside the other.
+                     ((0, 2, 0), (1, 2, 1)), ((0, 3, 0), (2, 3, 1)), ((0, 1, 0), (0, 4, 1), (3, 2, 2)),
+                     # Inside with the same lock; equally long.
+                     ((0, 3, 0), (1, 1, 0)), ((0, 2, 0), (0, 3, 0)), ((0, 2, 0), (0, 2, 1)), ((0, 2, 0), (0, 2, 0)),
+                     ((0, 5, 0), (1, 3, 1), (2, 1, 0)), ((0, 1, 0), (0, 1, 1)),
+                     # Five sections.
+                     ((0, 1, 0), (1, 1, 0), (2, 1, 0), (3, 1, 0), (4, 1, 0))):
+        bad.append((5, 5, sections))
+    return wrong_things(errors.BadLocked, (5, 5, ((0, 5, 0), (1, 2, 1))), bad, 5)
+
+
+def wrong_locked_patterns(errors):
+    """Pairs for locked tasks with the costs and gaps of PATTERN_TASKS."""
+    return wrong_patterns(errors)
+
+
+LOCKED_TASKS = ((2, 5, ((0, 2, 1),)), (1, 1, ()))

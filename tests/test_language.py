@@ -180,6 +180,10 @@ class LanguageTest(unittest.TestCase):
             "orders": "feasible_order stuck_set shows_stuck greatest_scale",
             "deadlines": "demand overfull_length worst_by_deadline least_deadline first_miss",
             "whole": "whole_overfull longest_region worst_whole_response later_when_shorter",
+            "equal": "equal_starts refusal shows_starts shows_refusal",
+            "machine": "whole_starts shows_whole_starts needs_waiting fewest_points",
+            "slots": "first_collision free_offsets", "locks": "ceilings lock_ring simulate_locked",
+            "blocking": "blocked_units blockers worst_blocking locked_response_bound",
         }
         for stem, names in listed.items():
             self.assertLessEqual(set(names.split()), set(module_names(PACKAGE / f"{stem}.py")))
