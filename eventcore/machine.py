@@ -90,7 +90,7 @@ def fewest_points(blocks, most, overhead):
     room = most
     # Each stretch takes as many blocks as it can: a longer one never leaves more to the stretches behind it.
     for place, length in enumerate(blocks):
-        if length > room and place > 0:
+        if length > room:
             points.append(place)
             room = most - overhead
         if length > room:

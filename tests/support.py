@@ -6,6 +6,7 @@ The oracles follow the words of the document as plainly as they can and share no
 import copy
 import random
 from fractions import Fraction
+from itertools import combinations
 from math import lcm
 
 # One or more values of each kind that may be passed for any argument.
@@ -577,3 +578,49 @@ def wrong_locked_patterns(errors):
 
 
 LOCKED_TASKS = ((2, 5, ((0, 2, 1),)), (1, 1, ()))
+
+
+# Jobs that may be interrupted, and links.
+
+def plain_units(jobs, value):
+    """What point 21 says of a schedule by units, job by job."""
+    if type(value) is not tuple or not value or value[-1] is None:
+        return False
+    if any(entry is not None and not is_whole(entry, 0, len(jobs) - 1) for entry in value):
+        return False
+    for job, (arrival, length, due) in enumerate(jobs):
+        places = [unit for unit, entry in enumerate(value) if entry == job]
+        if len(places) != length or places[0] < arrival or places[-1] >= due:
+            return False
+    return True
+
+
+def units_exist(jobs, machines=1):
+    """Whether the jobs can run in time on so many machines, by trying all ways to fill the units; for few small jobs."""
+    known = {}
+
+    def fits(unit, left):
+        if not any(left):
+            return True
+        if any(need > max(0, due - max(unit, arrival)) for need, (arrival, _, due) in zip(left, jobs)):
+            return False
+        if (unit, left) not in known:
+            ready = [job for job, need in enumerate(left) if need and jobs[job][0] <= unit]
+            picks = combinations(ready, min(machines, len(ready)))
+            known[unit, left] = any(fits(unit + 1, tuple(need - (job in pick) for job, need in enumerate(left)))
+                                    for pick in picks)
+        return known[unit, left]
+
+    return fits(0, tuple(length for _, length, _ in jobs))
+
+
+def random_links(rng, many, most=5):
+    """Links without a ring: they follow a random order of the jobs."""
+    order = rng.sample(range(many), many)
+    if many == 1:
+        return ()
+    pairs = []
+    for _ in range(rng.randint(0, most)):
+        one, other = sorted(rng.sample(range(many), 2))
+        pairs.append((order[one], order[other]))
+    return tuple(pairs)

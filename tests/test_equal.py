@@ -116,7 +116,7 @@ class EqualJobsTest(Checks, unittest.TestCase):
 
     def test_closed_times_matter(self):
         # The machine must stay free at 0 although a job is there, and twice at that.
-        self.assert_same(equal_starts(((0, 100), (1, 4), (5, 8)), 3), (8, 1, 5))
+        self.assert_same(equal_starts(((0, 11), (1, 4), (5, 8)), 3), (8, 1, 5))
         # The long wait only shows if the windows are worked through one after the other.
         jobs = ((0, 7), (1, 4))
         self.assert_same(equal_starts(jobs, 3), (4, 1))

@@ -184,6 +184,10 @@ class LanguageTest(unittest.TestCase):
             "machine": "whole_starts shows_whole_starts needs_waiting fewest_points",
             "slots": "first_collision free_offsets", "locks": "ceilings lock_ring simulate_locked",
             "blocking": "blocked_units blockers worst_blocking locked_response_bound",
+            "interrupted": "unit_schedule shows_units full_window least_lateness",
+            "linked": "least_late_order most_on_time best_units tightened linked_schedule",
+            "parallel": "wrapped shows_pieces parallel_schedule crowd shows_parallel shows_crowd",
+            "openshop": "open_steps shows_steps", "fair": "fair_schedule shows_fair",
         }
         for stem, names in listed.items():
             self.assertLessEqual(set(names.split()), set(module_names(PACKAGE / f"{stem}.py")))
