@@ -17,16 +17,14 @@ MOST_LOCKED = 5
 
 
 def fit_together(one, other):
-    """Tell whether two sections can stand in one task."""
+    """Tell whether two sections can stand in one task; the second one does not begin earlier."""
     start, length, lock = one
     other_start, other_length, other_lock = other
-    stop = start + length
-    other_stop = other_start + other_length
-    if stop <= other_start or other_stop <= start:
+    if other_start >= start + length:
         return True
-    inside = start >= other_start and stop <= other_stop
-    around = start <= other_start and stop >= other_stop
-    return (inside or around) and length != other_length and lock != other_lock
+    # Of two sections that begin together, one is always inside the other.
+    inside = other_start == start or other_start + other_length <= start + length
+    return inside and length != other_length and lock != other_lock
 
 
 def are_sections(value, cost):
@@ -36,7 +34,8 @@ def are_sections(value, cost):
     for section in value:
         if not is_row(section, ((0, cost), (1, cost), (0, LOCKS - 1))) or section[0] + section[1] > cost:
             return False
-    for one, other in combinations(list(value), 2):
+    rows = list(value)
+    for one, other in combinations(rows, 2):
         if one > other or not fit_together(one, other):
             return False
     return True

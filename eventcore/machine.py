@@ -4,7 +4,7 @@ from itertools import permutations
 
 from eventcore.errors import BadBlocks
 from eventcore.jobs import check_long_jobs
-from eventcore.values import are_apart, check_length, is_integer, is_tuple
+from eventcore.values import are_apart, are_integers, check_length, is_integer, is_tuple
 
 MOST_BLOCKS = 12
 MOST_BLOCK = 20
@@ -74,11 +74,8 @@ def needs_waiting(jobs):
 
 def check_blocks(blocks):
     """Raise BadBlocks unless the value is a program of blocks."""
-    if not is_tuple(blocks, 1, MOST_BLOCKS):
-        raise BadBlocks(f"not a tuple of 1 to {MOST_BLOCKS} lengths")
-    for length in blocks:
-        if not is_integer(length, 1, MOST_BLOCK):
-            raise BadBlocks(f"not an integer from 1 to {MOST_BLOCK}")
+    if not are_integers(blocks, MOST_BLOCKS, MOST_BLOCK):
+        raise BadBlocks(f"not a tuple of 1 to {MOST_BLOCKS} integers from 1 to {MOST_BLOCK}")
 
 
 def fewest_points(blocks, most, overhead):

@@ -2,7 +2,7 @@
 
 from eventcore.errors import BadLengths
 from eventcore.jobs import check_long_jobs
-from eventcore.values import are_apart, check_machines, is_ascending, is_integer, is_number, is_tuple
+from eventcore.values import are_apart, are_integers, check_machines, is_ascending, is_integer, is_number, is_tuple
 
 MOST_LENGTHS = 8
 MOST_LENGTH = 100
@@ -10,11 +10,8 @@ MOST_LENGTH = 100
 
 def check_lengths(lengths):
     """Raise BadLengths unless the value is a tuple of lengths."""
-    if not is_tuple(lengths, 1, MOST_LENGTHS):
-        raise BadLengths(f"not a tuple of 1 to {MOST_LENGTHS} lengths")
-    for length in lengths:
-        if not is_integer(length, 1, MOST_LENGTH):
-            raise BadLengths(f"not an integer from 1 to {MOST_LENGTH}")
+    if not are_integers(lengths, MOST_LENGTHS, MOST_LENGTH):
+        raise BadLengths(f"not a tuple of 1 to {MOST_LENGTHS} integers from 1 to {MOST_LENGTH}")
 
 
 def wrapped(lengths, machines):

@@ -60,8 +60,9 @@ def least_common_unit(one, other):
 def first_collision(slots):
     """Return the least unit that two slots occupy, or None if there is none."""
     check_slots(slots)
+    rows = list(slots)
     units = []
-    for one, other in combinations(list(slots), 2):
+    for one, other in combinations(rows, 2):
         if collide(one, other):
             units.append(least_common_unit(one, other))
     return min(units, default=None)

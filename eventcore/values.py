@@ -31,6 +31,13 @@ def is_row(value, ranges):
     return True
 
 
+def are_integers(value, most, high):
+    """Tell whether the value is a tuple of at least one and at most so many integers from 1 to high."""
+    if not is_tuple(value, 1, most):
+        return False
+    return all([is_integer(entry, 1, high) for entry in value])
+
+
 def is_order(value, many):
     """Tell whether the value is a tuple that contains each index below many once."""
     if not is_tuple(value, many, many):

@@ -595,8 +595,11 @@ def plain_units(jobs, value):
     return True
 
 
-def units_exist(jobs, machines=1):
-    """Whether the jobs can run in time on so many machines, by trying all ways to fill the units; for few small jobs."""
+def units_exist(jobs, machines=1, links=()):
+    """Whether the jobs can run in time on so many machines, by trying all ways to fill the units; for few small jobs.
+
+    With links a job begins only when all jobs in front of it are finished.
+    """
     known = {}
 
     def fits(unit, left):
@@ -605,7 +608,8 @@ def units_exist(jobs, machines=1):
         if any(need > max(0, due - max(unit, arrival)) for need, (arrival, _, due) in zip(left, jobs)):
             return False
         if (unit, left) not in known:
-            ready = [job for job, need in enumerate(left) if need and jobs[job][0] <= unit]
+            ready = [job for job, need in enumerate(left) if need and jobs[job][0] <= unit
+                     and not any(after == job and left[before] for before, after in links)]
             picks = combinations(ready, min(machines, len(ready)))
             known[unit, left] = any(fits(unit + 1, tuple(need - (job in pick) for job, need in enumerate(left)))
                                     for pick in picks)

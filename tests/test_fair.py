@@ -62,7 +62,8 @@ class FairScheduleTest(Checks, unittest.TestCase):
 
     def test_sums_around_the_number_of_machines(self):
         for pairs, machines in ((((1, 2), (1, 3), (1, 6)), 1), (((1, 2), (1, 3), (1, 5)), 1), (((2, 3),) * 3, 2),
-                                (((2, 3), (2, 3), (3, 4)), 2), (((3, 4),) * 4, 3), (((5, 6), (5, 6), (5, 6), (1, 2)), 3),
+                                (((2, 3), (2, 3), (3, 4)), 2), (((3, 4),) * 4, 3),
+                                (((5, 6), (5, 6), (5, 6), (1, 2)), 3),
                                 (((11, 12), (7, 12), (6, 12)), 2), (((1, 1),) * 4, 4), (((1, 1),) * 4, 3),
                                 (((7, 12), (5, 12)), 1), (((7, 12), (6, 12)), 1), (((1, 12), (1, 10), (1, 4)), 1)):
             self.check(pairs, machines)
@@ -77,11 +78,13 @@ class FairScheduleTest(Checks, unittest.TestCase):
         self.assertEqual(len(fair_schedule(((6, 12),), 1)), 12)
 
     def test_the_length_of_the_cycle(self):
-        for pairs in (((1, 12), (1, 5)), ((3, 10), (1, 4), (1, 6)), ((1, 3), (1, 4), (2, 5)), ((11, 12), (9, 10), (1, 1))):
+        for pairs in (((1, 12), (1, 5)), ((3, 10), (1, 4), (1, 6)), ((1, 3), (1, 4), (2, 5)),
+                      ((11, 12), (9, 10), (1, 1))):
             self.assertEqual(cycle_of(pairs), 60)
             self.check(pairs, 2)
             self.assertIs(shows_fair(pairs, 2, ()), False)
-        for pairs in (((1, 9), (1, 7)), ((1, 12), (1, 11)), ((1, 8), (1, 9)), ((1, 5), (1, 7), (1, 2)), ((1, 11), (1, 6))):
+        for pairs in (((1, 9), (1, 7)), ((1, 12), (1, 11)), ((1, 8), (1, 9)),
+                      ((1, 5), (1, 7), (1, 2)), ((1, 11), (1, 6))):
             self.assertGreater(cycle_of(pairs), 60)
             self.assert_error(errors.TooMany(60), fair_schedule, pairs, 2)
             self.assert_error(errors.TooMany(60), shows_fair, pairs, 2, ())
@@ -133,7 +136,8 @@ class FairScheduleTest(Checks, unittest.TestCase):
     def test_values_of_other_kinds(self):
         for value in ANY_VALUES:
             self.assertIs(self.assert_steady(shows_fair, ((1, 2), (2, 4)), 2, value), False)
-        for value in (((False,), ()), ([0], ()), (0, None), ((0,), None), [(0,), ()], ((0, 0), ()), ((0,), (1,)), ("0", "")):
+        for value in (((False,), ()), ([0], ()), (0, None), ((0,), None), [(0,), ()], ((0, 0), ()),
+                      ((0,), (1,)), ("0", "")):
             self.assertIs(shows_fair(((1, 2),), 1, value), False)
         self.assertIs(shows_fair(((1, 1), (1, 1)), 2, ((0, 1),)), True)
         for value in (((1, 0),), ((0, True),), ((0,),), ((0, 1, 1),)):

@@ -106,8 +106,8 @@ class UnitScheduleTest(Checks, unittest.TestCase):
         jobs = ((0, 1, 9), (0, 1, 9))
         for value in ((0, 1), (1, 0), (None, 0, None, 1)):
             self.assertIs(shows_units(jobs, value), True)
-        for value in ((False, 1), (0, True), (0, 1, None), (0,), (0, 1, 0), (0, 2), (0, -1), [0, 1], (0, "1"), (0, (1,)),
-                      ((0, 1),), (0, [1]), (None,) * 9 + (0, 1)):
+        for value in ((False, 1), (0, True), (0, 1, None), (0,), (0, 1, 0), (0, 2), (0, -1), [0, 1], (0, "1"),
+                      (0, (1,)), ((0, 1),), (0, [1]), (None,) * 9 + (0, 1)):
             self.assertIs(shows_units(jobs, value), False)
 
     def test_wrong_arguments(self):

@@ -6,8 +6,8 @@ from itertools import combinations, permutations
 from eventcore import errors
 from eventcore.interrupted import unit_schedule
 from eventcore.linked import best_units, least_late_order, linked_schedule, most_on_time, tightened
-from support import (Checks, plain_units, random_links, random_long_jobs, rng_of, wrong_links, wrong_long_jobs,
-                     wrong_pair_jobs)
+from support import (Checks, plain_units, random_links, random_long_jobs, rng_of, units_exist, wrong_links,
+                     wrong_long_jobs, wrong_pair_jobs)
 
 THREE = ((0, 3, 9), (1, 2, 4), (2, 1, 4))
 
@@ -138,7 +138,8 @@ class BestUnitsTest(Checks, unittest.TestCase):
         cut = 0
         for _ in range(300):
             most = rng.choice((1, 3, 100))
-            jobs = tuple((rng.randint(0, rng.choice((2, 5, 9))), rng.randint(0, most)) for _ in range(rng.randint(1, 8)))
+            jobs = tuple((rng.randint(0, rng.choice((2, 5, 9))), rng.randint(0, most))
+                         for _ in range(rng.randint(1, 8)))
             found = self.assert_steady(best_units, jobs)
             self.assertIs(type(found), tuple)
             self.assertEqual(list(found), sorted(set(found)))
@@ -202,24 +203,6 @@ class TightenedTest(Checks, unittest.TestCase):
 
 
 class LinkedScheduleTest(Checks, unittest.TestCase):
-    def exists(self, jobs, links):
-        """Whether there is such a schedule, by trying all jobs in each unit."""
-        known = {}
-
-        def fits(unit, left):
-            if not any(left):
-                return True
-            if any(need > max(0, due - max(unit, arrival)) for need, (arrival, _, due) in zip(left, jobs)):
-                return False
-            if (unit, left) not in known:
-                ready = [job for job, need in enumerate(left) if need and jobs[job][0] <= unit
-                         and not any(after == job and left[before] for before, after in links)]
-                rows = [tuple(need - (one == job) for one, need in enumerate(left)) for job in ready] or [left]
-                known[unit, left] = any(fits(unit + 1, row) for row in rows)
-            return known[unit, left]
-
-        return fits(0, tuple(length for _, length, _ in jobs))
-
     def keeps_links(self, units, links):
         ends = {job: unit for unit, job in enumerate(units)}
         return all(ends[before] < units.index(after) for before, after in links)
@@ -230,7 +213,7 @@ class LinkedScheduleTest(Checks, unittest.TestCase):
         for _ in range(500):
             jobs = random_long_jobs(rng, most=5, most_length=3, spread=6, slack=rng.choice((4, 9, 14)))
             links = random_links(rng, len(jobs), most=5)
-            wanted = self.exists(jobs, links)
+            wanted = units_exist(jobs, links=links)
             units = self.assert_steady(linked_schedule, jobs, links)
             self.assertEqual(units is not None, wanted, (jobs, links))
             if wanted:

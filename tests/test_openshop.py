@@ -30,13 +30,15 @@ def plain_steps(needs, value):
             worked[job, machine] = worked.get((job, machine), 0) + step[0]
     if total != least_total(needs):
         return False
-    return all(worked.get((job, machine), 0) == need for job, row in enumerate(needs) for machine, need in enumerate(row))
+    return all(worked.get((job, machine), 0) == need
+               for job, row in enumerate(needs) for machine, need in enumerate(row))
 
 
 def random_needs(rng, most_rows=5, most_columns=4):
     rows, columns, most = rng.randint(1, most_rows), rng.randint(1, most_columns), rng.choice((1, 3, 20))
     empty = rng.choice((0, 0, 0.3, 0.7))
-    return tuple(tuple(0 if rng.random() < empty else rng.randint(0, most) for _ in range(columns)) for _ in range(rows))
+    return tuple(tuple(0 if rng.random() < empty else rng.randint(0, most) for _ in range(columns))
+                 for _ in range(rows))
 
 
 class OpenStepsTest(Checks, unittest.TestCase):

@@ -141,11 +141,14 @@ class WrappedTest(Checks, unittest.TestCase):
                               # Not ascending, overlapping on a machine or of a job, too short or too long.
                               (((1, 0, 4, 0), (0, 0, 4, 1)), False), (((0, 0, 4, 0), (0, 3, 7, 1)), False),
                               (((0, 0, 2, 0), (1, 0, 4, 1), (1, 4, 6, 1)), False), (((0, 0, 4, 0),), False),
-                              (((0, 0, 2, 0), (0, 4, 8, 1), (1, 1, 3, 0)), False), (((0, 0, 3, 0), (1, 0, 4, 1)), False),
+                              (((0, 0, 2, 0), (0, 4, 8, 1), (1, 1, 3, 0)), False),
+                              (((0, 0, 3, 0), (1, 0, 4, 1)), False),
                               (((0, 0, 5, 0), (1, 0, 4, 1)), False), (((0, -1, 3, 0), (1, 0, 4, 1)), False),
-                              (((0, 0, 0, 0), (0, 0, 4, 0), (1, 0, 4, 1)), False), (((0, 0, 4, 0), (2, 0, 4, 1)), False),
+                              (((0, 0, 0, 0), (0, 0, 4, 0), (1, 0, 4, 1)), False),
+                              (((0, 0, 4, 0), (2, 0, 4, 1)), False),
                               (((0, 0, 4, 0), (1, 0, 4, 2)), False), (((-1, 0, 4, 0), (1, 0, 4, 1)), False),
-                              (((0, 4, 0, 0), (1, 0, 4, 1)), False), (((0, 0, 4, 0), (1, 0, 4, 1), (1, 0, 4, 1)), False),
+                              (((0, 4, 0, 0), (1, 0, 4, 1)), False),
+                              (((0, 0, 4, 0), (1, 0, 4, 1), (1, 0, 4, 1)), False),
                               (((0, 0, 4, -1), (1, 0, 4, 1)), False), (((False, 0, 4, 0), (1, 0, 4, 1)), False),
                               (((0, False, 4, 0), (1, 0, 4, 1)), False), (((0, 0, 4, 0), (True, 0, 4, 1)), False),
                               (((0, 0, 4, 0), (1, 0, 4, True)), False), (((0, 0, 4, 0), [1, 0, 4, 1]), False),
@@ -197,7 +200,8 @@ class ParallelTest(Checks, unittest.TestCase):
         counts = [0, 0]
         for _ in range(100):
             machines = rng.randint(1, 3)
-            jobs = random_long_jobs(rng, most=7, most_length=20, spread=rng.choice((5, 30, 80)), slack=rng.choice((2, 9)))
+            jobs = random_long_jobs(rng, most=7, most_length=20, spread=rng.choice((5, 30, 80)),
+                                    slack=rng.choice((2, 9)))
             wanted = all_crowds(jobs, machines) == []
             self.check(jobs, machines, wanted)
             counts[wanted] += 1
