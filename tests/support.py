@@ -572,11 +572,7 @@ def wrong_locked(errors):
     return wrong_things(errors.BadLocked, (5, 5, ((0, 5, 0), (1, 2, 1))), bad, 5)
 
 
-def wrong_locked_patterns(errors):
-    """Pairs for locked tasks with the costs and gaps of PATTERN_TASKS."""
-    return wrong_patterns(errors)
-
-
+# The costs and gaps are those of PATTERN_TASKS.
 LOCKED_TASKS = ((2, 5, ((0, 2, 1),)), (1, 1, ()))
 
 
