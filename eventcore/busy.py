@@ -1,23 +1,23 @@
 """The lengths up to which a processor stays busy if tasks arrive at all multiples of their gaps."""
 
-from math import lcm
-
+from eventcore.counting import common_multiple, rounded_up
 from eventcore.errors import TooMany
 from eventcore.values import first_greatest
 
 MOST_LENGTH = 5000
-
-
-def rounded_up(length, gap):
-    """Return the length divided by the gap, rounded up."""
-    return -(-length // gap)
+MOST_COMMON_GAP = 240
 
 
 def common_gap(tasks):
     """Return the least common multiple of the gaps."""
-    common = 1
-    for _, _, gap in tasks:
-        common = lcm(common, gap)
+    return common_multiple([gap for _, _, gap in tasks])
+
+
+def bounded_common_gap(tasks):
+    """Return the least common multiple of the gaps; raise TooMany if it is too great to look at all times below it."""
+    common = common_gap(tasks)
+    if common > MOST_COMMON_GAP:
+        raise TooMany(MOST_COMMON_GAP)
     return common
 
 

@@ -1,12 +1,12 @@
 """Earliest deadlines: the demand of lengths, worst response times, least deadlines, and the first missed job."""
 
-from eventcore.busy import MOST_LENGTH, bounded_length, common_gap, has_end, least_length, rounded_up
+from eventcore.busy import MOST_LENGTH, bounded_common_gap, bounded_length, has_end, least_length
+from eventcore.counting import rounded_up
 from eventcore.errors import BadOffsets, TooMany
 from eventcore.tasks import MOST_DEADLINE, check_tasks, with_task
 from eventcore.values import check_length, check_task, first_greatest, is_integer, is_tuple
 
 MOST_BUSY = 300
-MOST_COMMON_GAP = 240
 LAST_OFFSET = 60
 
 
@@ -149,9 +149,7 @@ def first_miss(tasks, offsets):
     """Return the missed job (task, number) with the smallest due time, if all tasks arrive without end, or None."""
     check_tasks(tasks)
     check_offsets(tasks, offsets)
-    common = common_gap(tasks)
-    if common > MOST_COMMON_GAP:
-        raise TooMany(MOST_COMMON_GAP)
+    common = bounded_common_gap(tasks)
     # Work that keeps pace with time misses before this time or never; other work misses at some time.
     last = max(offsets) + 2 * common
     endless = not has_end(0, tasks)

@@ -1,7 +1,6 @@
 """Fair schedules: at each time every index has run as long as its part of the time says, to less than one unit."""
 
-from math import lcm
-
+from eventcore.counting import common_multiple
 from eventcore.errors import TooMany
 from eventcore.slots import check_pairs
 from eventcore.values import check_machines, is_ascending
@@ -13,9 +12,7 @@ def cycle_length(pairs, machines):
     """Return the length of the cycle; raise the error of the first argument that is not allowed, or TooMany."""
     check_pairs(pairs)
     check_machines(machines)
-    cycle = 1
-    for _, gap in pairs:
-        cycle = lcm(cycle, gap)
+    cycle = common_multiple([gap for _, gap in pairs])
     if cycle > MOST_CYCLE:
         raise TooMany(MOST_CYCLE)
     return cycle

@@ -74,14 +74,22 @@ def responses(tasks, pattern, policy):
     return tuple(rows)
 
 
-def missed(tasks, pattern, policy):
-    """Return the ascending tuple of the pairs (task, number) of the jobs that finish after their due times."""
+def late_jobs(tasks, pattern, schedule):
+    """Return the jobs (task, number) that finish after their due times in a schedule that has been checked."""
     late = []
-    for task, times in enumerate(responses(tasks, pattern, policy)):
-        for number, time in enumerate(times):
-            if time > tasks[task][1]:
+    for task, ends in enumerate(finish_times(tasks, schedule)):
+        for number, end in enumerate(ends):
+            if end > pattern[task][number] + tasks[task][1]:
                 late.append((task, number))
     return tuple(late)
+
+
+def missed(tasks, pattern, policy):
+    """Return the ascending tuple of the pairs (task, number) of the jobs that finish after their due times."""
+    check_tasks(tasks)
+    check_pattern(tasks, pattern)
+    check_policy(tasks, policy)
+    return late_jobs(tasks, pattern, policy_schedule(tasks, pattern, policy))
 
 
 def idle_units(tasks, pattern):

@@ -64,18 +64,24 @@ def work_of(tasks, pattern):
     return [tasks[task][0] * len(arrivals) for task, arrivals in enumerate(pattern)]
 
 
-def policy_schedule(tasks, pattern, policy):
-    """Return the schedule of the policy, for arguments that have been checked."""
+def table_schedule(tasks, pattern, policy, table):
+    """Return the schedule of the policy if tasks run only in units with a one in the table, which is repeated."""
     done = [0] * len(tasks)
     left = sum(work_of(tasks, pattern))
     schedule = []
     while left > 0:
-        task = next_task(tasks, pattern, policy, done, len(schedule))
+        unit = len(schedule)
+        task = next_task(tasks, pattern, policy, done, unit) if table[unit % len(table)] == 1 else None
         schedule.append(task)
         if task is not None:
             done[task] += 1
             left -= 1
     return tuple(schedule)
+
+
+def policy_schedule(tasks, pattern, policy):
+    """Return the schedule of the policy, for arguments that have been checked."""
+    return table_schedule(tasks, pattern, policy, (1,))
 
 
 def simulate(tasks, pattern, policy):

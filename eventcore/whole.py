@@ -1,6 +1,7 @@
 """Jobs that run on once they have begun: blocked lengths, regions without interruption, worst response times."""
 
-from eventcore.busy import MOST_LENGTH, bounded_length, least_length, rounded_up
+from eventcore.busy import MOST_LENGTH, bounded_length, least_length
+from eventcore.counting import rounded_up
 from eventcore.deadlines import demand_at, least_overfull, sure_length
 from eventcore.errors import TooMany
 from eventcore.fixed import check_places, in_front

@@ -221,6 +221,14 @@ def wrong_links(errors):
     return rows
 
 
+def wrong_length_rows(errors):
+    """Pairs of a value that is not lengths and its error."""
+    bad = [value for value in ANY_VALUES
+           if type(value) is not tuple or not value or not all(is_whole(entry, 1, 100) for entry in value)]
+    bad += [(1,) * 9, (0,), (101,), (5, 0), (5, True), (5, None), (5, "5"), (5, (5,)), [5, 5], (5, -1)]
+    return [(value, errors.BadLengths()) for value in bad]
+
+
 def wrong_machines(errors):
     """Pairs of a value that is not a number of machines and its error."""
     return [(value, errors.BadMachines()) for value in wrong_numbers(1, 4)]

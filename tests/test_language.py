@@ -188,6 +188,11 @@ class LanguageTest(unittest.TestCase):
             "linked": "least_late_order most_on_time best_units tightened linked_schedule",
             "parallel": "wrapped shows_pieces parallel_schedule crowd shows_parallel shows_crowd",
             "openshop": "open_steps shows_steps", "fair": "fair_schedule shows_fair",
+            "levels": "level_steps two_machine_steps level_bound",
+            "intervals": "interval_machines best_intervals crowded_unit",
+            "lists": "flow_end flow_order sum_of_ends shortest_first list_end least_end partition",
+            "rings": "ring_for shows_ring frame_sizes",
+            "supply": "least_supply greatest_supply reduced free_shift unserved_length table_missed",
         }
         for stem, names in listed.items():
             self.assertLessEqual(set(names.split()), set(module_names(PACKAGE / f"{stem}.py")))

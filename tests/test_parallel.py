@@ -7,7 +7,7 @@ from eventcore import errors
 from eventcore.interrupted import unit_schedule
 from eventcore.parallel import crowd, parallel_schedule, shows_crowd, shows_parallel, shows_pieces, wrapped
 from support import (ANY_VALUES, Checks, bent_tuples, is_whole, random_long_jobs, rng_of, same, units_exist,
-                     wrong_long_jobs, wrong_machines)
+                     wrong_length_rows, wrong_long_jobs, wrong_machines)
 
 
 def plain_pieces(lengths, machines, value):
@@ -60,13 +60,6 @@ def plain_crowd(jobs, machines, value):
 def all_crowds(jobs, machines):
     sets = [members for many in range(len(jobs) + 1) for members in combinations(range(len(jobs)), many)]
     return [members for members in sets if plain_crowd(jobs, machines, members)]
-
-
-def wrong_lengths(errors):
-    bad = [value for value in ANY_VALUES
-           if type(value) is not tuple or not value or not all(is_whole(entry, 1, 100) for entry in value)]
-    bad += [(1,) * 9, (0,), (101,), (5, 0), (5, True), (5, None), (5, "5"), (5, (5,)), [5, 5], (5, -1)]
-    return [(value, errors.BadLengths()) for value in bad]
 
 
 class WrappedTest(Checks, unittest.TestCase):
@@ -164,7 +157,7 @@ class WrappedTest(Checks, unittest.TestCase):
             self.assertIs(self.assert_steady(shows_pieces, (2, 2), 2, value), False)
 
     def test_wrong_arguments(self):
-        wrong = [wrong_lengths(errors), wrong_machines(errors)]
+        wrong = [wrong_length_rows(errors), wrong_machines(errors)]
         self.assert_wrong_arguments(wrapped, ((3, 4), 2), wrong)
         self.assert_wrong_arguments(shows_pieces, ((3, 4), 2, ()), wrong)
 
