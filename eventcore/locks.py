@@ -7,7 +7,7 @@ It also tells which locks are held: only the first unfinished job of a task can 
 from itertools import combinations, permutations
 
 from eventcore.errors import BadLocked, BadProtocol
-from eventcore.simulation import has_begun, has_job, work_of
+from eventcore.simulation import has_begun, ready_tasks, work_of
 from eventcore.tasks import MOST_COST, MOST_GAP, check_pattern
 from eventcore.values import is_integer, is_row, is_tuple
 
@@ -166,7 +166,7 @@ def current_priorities(tasks, protocol, done, waiting):
 
 def next_locked(tasks, pattern, protocol, done, unit):
     """Return the task that the protocol runs in the unit, or None if no job may run."""
-    ready = [task for task in range(len(tasks)) if has_job(tasks, pattern, done, task, unit)]
+    ready = ready_tasks(tasks, pattern, done, unit)
     waiting = {task: holders(tasks, protocol, done, task) for task in ready}
     ranks = current_priorities(tasks, protocol, done, waiting)
     # Under "stack" a begun job comes ahead of one that is not; otherwise the smallest task goes first.

@@ -1,7 +1,7 @@
 """What a schedule of a pattern is, and what can be read off it: finish times, response times, missed jobs."""
 
 from eventcore.errors import BadSchedule
-from eventcore.simulation import check_policy, has_job, policy_schedule, work_of
+from eventcore.simulation import check_run, has_job, policy_schedule, work_of
 from eventcore.tasks import check_pattern, check_tasks
 from eventcore.values import is_integer
 
@@ -31,7 +31,9 @@ def is_schedule(tasks, pattern, value):
 
 
 def check_schedule(tasks, pattern, schedule):
-    """Raise BadSchedule unless the value is a schedule for the pattern."""
+    """Raise the error of the first of the three arguments that is not allowed."""
+    check_tasks(tasks)
+    check_pattern(tasks, pattern)
     if not is_schedule(tasks, pattern, schedule):
         raise BadSchedule("not a schedule for the pattern")
 
@@ -57,17 +59,13 @@ def finish_times(tasks, schedule):
 
 def finishes(tasks, pattern, schedule):
     """Return the tuple, for each task, of the tuple of the finish times of its jobs."""
-    check_tasks(tasks)
-    check_pattern(tasks, pattern)
     check_schedule(tasks, pattern, schedule)
     return finish_times(tasks, schedule)
 
 
 def responses(tasks, pattern, policy):
     """Return the tuple, for each task, of the tuple of the response times of its jobs under the policy."""
-    check_tasks(tasks)
-    check_pattern(tasks, pattern)
-    check_policy(tasks, policy)
+    check_run(tasks, pattern, policy)
     rows = []
     for arrivals, ends in zip(pattern, finish_times(tasks, policy_schedule(tasks, pattern, policy))):
         rows.append(tuple([end - arrival for arrival, end in zip(arrivals, ends)]))
@@ -86,9 +84,7 @@ def late_jobs(tasks, pattern, schedule):
 
 def missed(tasks, pattern, policy):
     """Return the ascending tuple of the pairs (task, number) of the jobs that finish after their due times."""
-    check_tasks(tasks)
-    check_pattern(tasks, pattern)
-    check_policy(tasks, policy)
+    check_run(tasks, pattern, policy)
     return late_jobs(tasks, pattern, policy_schedule(tasks, pattern, policy))
 
 

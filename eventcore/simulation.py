@@ -24,11 +24,23 @@ def check_policy(tasks, policy):
         raise BadPolicy("not a policy for the tasks")
 
 
+def check_run(tasks, pattern, policy):
+    """Raise the error of the first of the three arguments that is not allowed."""
+    check_tasks(tasks)
+    check_pattern(tasks, pattern)
+    check_policy(tasks, policy)
+
+
 def has_job(tasks, pattern, done, task, unit):
     """Tell whether a job of the task has arrived at the beginning of the unit or before it and is not finished."""
     number = done[task] // tasks[task][0]
     arrivals = pattern[task]
     return number < len(arrivals) and arrivals[number] <= unit
+
+
+def ready_tasks(tasks, pattern, done, unit):
+    """Return the list of the tasks with a job that has arrived and is not finished."""
+    return [task for task in range(len(tasks)) if has_job(tasks, pattern, done, task, unit)]
 
 
 def has_begun(tasks, done, task):
@@ -50,7 +62,7 @@ def job_rank(tasks, pattern, policy, done, task):
 
 def next_task(tasks, pattern, policy, done, unit):
     """Return the task that the policy runs in the unit, or None if no job is there."""
-    ready = [task for task in range(len(tasks)) if has_job(tasks, pattern, done, task, unit)]
+    ready = ready_tasks(tasks, pattern, done, unit)
     if policy[0] in ("whole", "whole deadline"):
         begun = [task for task in ready if has_begun(tasks, done, task)]
         if begun:
@@ -86,9 +98,7 @@ def policy_schedule(tasks, pattern, policy):
 
 def simulate(tasks, pattern, policy):
     """Return the schedule of the policy: the task that runs in each unit, or None."""
-    check_tasks(tasks)
-    check_pattern(tasks, pattern)
-    check_policy(tasks, policy)
+    check_run(tasks, pattern, policy)
     return policy_schedule(tasks, pattern, policy)
 
 

@@ -6,8 +6,8 @@ from eventcore.deadlines import demand_at, least_overfull, sure_length
 from eventcore.errors import TooMany
 from eventcore.fixed import check_places, in_front
 from eventcore.schedules import finish_times
-from eventcore.simulation import check_policy, policy_schedule
-from eventcore.tasks import MOST_DEADLINE, check_pattern, check_tasks, with_task
+from eventcore.simulation import check_run, policy_schedule
+from eventcore.tasks import MOST_DEADLINE, check_tasks, with_task
 from eventcore.values import check_task, first_greatest
 
 
@@ -87,9 +87,7 @@ def some_later(before, after):
 
 def later_when_shorter(tasks, pattern, policy):
     """Return the ascending tuple of the tasks that make some job finish later if their cost is one less."""
-    check_tasks(tasks)
-    check_pattern(tasks, pattern)
-    check_policy(tasks, policy)
+    check_run(tasks, pattern, policy)
     before = finish_times(tasks, policy_schedule(tasks, pattern, policy))
     found = []
     for task, (cost, deadline, gap) in enumerate(tasks):

@@ -118,6 +118,18 @@ def wrong_patterns(errors):
 PATTERN_TASKS = ((2, 9, 5), (1, 9, 1))
 
 
+def wrong_schedules(errors):
+    """Pairs for the task set above and the pattern below."""
+    bad = list(ANY_VALUES)
+    bad += [(0, 0, 1, None, 0, 0), (0, 0, 1, None, None, 0, 0, None), (0, 0, 1, None, None, 0),
+            [0, 0, 1, None, None, 0, 0], (0, 0, True, None, None, 0, 0), (0, 1, 0, None, None, 0, 0),
+            (0, 0, 1, "?", None, 0, 0), (0, 0, 1, None, None, 0, 0, 0), (0, 0, 1, None, None, 0, 2)]
+    return [(value, errors.BadSchedule()) for value in bad]
+
+
+SCHEDULE_PATTERN = ((0, 5), (2,))
+
+
 def wrong_orders():
     """Values that are not orders of two tasks."""
     bad = [value for value in ANY_VALUES if not same(value, (0, 1))] + [(False, 1), (0, True), (1, False)]
@@ -341,6 +353,46 @@ def oracle_finishes(tasks, pattern, policy):
     for job in jobs:
         rows[job.task].append(job.finish)
     return tuple(tuple(row) for row in rows)
+
+
+def plain_schedule(tasks, pattern, value):
+    """Point 4, clause by clause, over jobs instead of counts."""
+    if type(value) is not tuple:
+        return False
+    jobs = jobs_of(tasks, pattern)
+    for unit, entry in enumerate(value):
+        if entry is None:
+            continue
+        if type(entry) is not int:
+            return False
+        fitting = [job for job in jobs if job.task == entry and job.arrival <= unit and job.left > 0]
+        if not fitting:
+            return False
+        fitting[0].left -= 1
+    return all(job.left == 0 for job in jobs) and (value == () or value[-1] is not None)
+
+
+def random_schedule(rng, tasks, pattern, idle):
+    """A schedule of any policy or of none: in each unit some job runs that is there, or none with this chance."""
+    jobs = jobs_of(tasks, pattern)
+    units = []
+    while any(job.left for job in jobs):
+        there = [job.task for job in jobs if job.left and job.arrival <= len(units)]
+        task = None if not there or rng.random() < idle else rng.choice(there)
+        if task is not None:
+            [job for job in jobs if job.task == task and job.left][0].left -= 1
+        units.append(task)
+    return tuple(units)
+
+
+def bent_schedule(rng, units):
+    """The tuple of units with some entries exchanged."""
+    row = list(units)
+    for _ in range(rng.randint(0, 2)):
+        if len(row) > 1:
+            one, other = rng.sample(range(len(row)), 2)
+            row[one], row[other] = row[other], row[one]
+    return tuple(row)
 
 
 def rate(tasks):

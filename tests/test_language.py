@@ -131,6 +131,14 @@ class LanguageTest(unittest.TestCase):
             if isinstance(node, (ast.FunctionDef, ast.ClassDef)):
                 self.assertEqual(node.decorator_list, [], path)
 
+    def test_stars_stand_over_plain_values(self):
+        for path, node in walk_all():
+            if isinstance(node, ast.Starred) and isinstance(node.value, ast.Call):
+                self.assertIsInstance(node.value.func, ast.Name, path)
+                self.assertNotIn(node.value.func.id, ("range", "zip", "enumerate", "reversed", "map", "iter"), path)
+            if isinstance(node, ast.Dict):
+                self.assertNotIn(None, node.keys, path)
+
     def test_module_level(self):
         allowed = (ast.ImportFrom, ast.FunctionDef, ast.ClassDef, ast.Assign, ast.Expr)
         for path in files():
@@ -144,12 +152,14 @@ class LanguageTest(unittest.TestCase):
             self.assertEqual(len(bound), len(set(bound)), path)
 
     def test_builtins_and_methods(self):
+        own = {one.name for _, node in walk_all() if isinstance(node, ast.ClassDef) for one in node.body
+               if isinstance(one, ast.FunctionDef)}
         for path, node in walk_all():
             if isinstance(node, ast.Name) and hasattr(builtins, node.id):
                 self.assertIn(node.id, ALLOWED_BUILTINS, path)
                 self.assertIsInstance(node.ctx, ast.Load, path)
             if isinstance(node, ast.Call) and isinstance(node.func, ast.Attribute):
-                self.assertIn(node.func.attr, METHODS, path)
+                self.assertIn(node.func.attr, METHODS | own, path)
 
     def test_names(self):
         for path, node in walk_all():
@@ -193,6 +203,10 @@ class LanguageTest(unittest.TestCase):
             "lists": "flow_end flow_order sum_of_ends shortest_first list_end least_end partition",
             "rings": "ring_for shows_ring frame_sizes",
             "supply": "least_supply greatest_supply reduced free_shift unserved_length table_missed",
+            "servers": "deferrable_units polling_units deferrable_bound",
+            "explaining": "forced_pairs explaining_orders first_breach deadline_choices",
+            "filling": "fillings possible_entries joined nearest_schedule", "watching": "doom first_doom",
+            "desk": "Desk",
         }
         for stem, names in listed.items():
             self.assertLessEqual(set(names.split()), set(module_names(PACKAGE / f"{stem}.py")))

@@ -5,25 +5,9 @@ import unittest
 from eventcore import errors
 from eventcore.schedules import finishes, idle_units, missed, responses, shows_schedule
 from eventcore.simulation import simulate
-from support import (ANY_VALUES, PATTERN_TASKS, Checks, all_policies, jobs_of, oracle_finishes, random_order,
-                     random_pattern, random_tasks, rng_of, same, wrong_patterns, wrong_policies, wrong_tasks)
-
-
-def plain_schedule(tasks, pattern, value):
-    """Point 4, clause by clause, over jobs instead of counts."""
-    if type(value) is not tuple:
-        return False
-    jobs = jobs_of(tasks, pattern)
-    for unit, entry in enumerate(value):
-        if entry is None:
-            continue
-        if type(entry) is not int:
-            return False
-        fitting = [job for job in jobs if job.task == entry and job.arrival <= unit and job.left > 0]
-        if not fitting:
-            return False
-        fitting[0].left -= 1
-    return all(job.left == 0 for job in jobs) and (value == () or value[-1] is not None)
+from support import (ANY_VALUES, PATTERN_TASKS, SCHEDULE_PATTERN, Checks, all_policies, oracle_finishes, plain_schedule, random_order,
+                     random_pattern, random_tasks, rng_of, same, wrong_patterns, wrong_policies, wrong_schedules,
+                     wrong_tasks)
 
 
 class ShowsScheduleTest(Checks, unittest.TestCase):
@@ -120,13 +104,10 @@ class FinishesTest(Checks, unittest.TestCase):
                                  oracle_finishes(tasks, pattern, policy))
 
     def test_wrong_schedules(self):
-        pattern = ((0, 5), (2,))
-        bad = list(ANY_VALUES)
-        bad += [(0, 0, 1, None, 0, 0), (0, 0, 1, None, None, 0, 0, None), (0, 0, 1, None, None, 0),
-                [0, 0, 1, None, None, 0, 0], (0, 0, True, None, None, 0, 0), (0, 1, 0, None, None, 0, 0)]
+        pattern = SCHEDULE_PATTERN
         self.assert_same(finishes(PATTERN_TASKS, pattern, (0, 0, 1, None, None, 0, 0)), ((2, 7), (3,)))
-        for value in bad:
-            self.assert_error(errors.BadSchedule(), finishes, PATTERN_TASKS, pattern, value)
+        for value, error in wrong_schedules(errors):
+            self.assert_error(error, finishes, PATTERN_TASKS, pattern, value)
 
     def test_wrong_arguments(self):
         self.assert_wrong_arguments(finishes, (PATTERN_TASKS, ((0,), ()), (0, 0)), [
